@@ -1,0 +1,1 @@
+"""Many hands make, move and drop drawers within drawers, and look without locks."""

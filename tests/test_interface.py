@@ -1,0 +1,48 @@
+"""The interface: each name stands in its file, with its arguments; and the package has no others' names."""
+
+import importlib
+import inspect
+import unittest
+
+FUNCTIONS = {
+    "kinds": {"is_number": "(thing)", "is_name": "(thing)", "is_way": "(thing)"},
+    "trees": {"is_tree": "(thing)", "kind_of": "(tree, node)", "entries_of": "(tree, node)"},
+    "paths": {"way_through": "(tree, way, *, top=0)", "ways_to": "(tree, node)", "above": "(tree, node)"},
+    "deeds": {"is_deed": "(thing)", "done": "(tree, deed)", "done_all": "(tree, deeds=())"},
+    "renaming": {
+        "renamed": "(tree, *, names=(), nodes=())",
+        "renamed_deed": "(deed, *, names=())",
+        "renamed_told": "(told, *, names=(), nodes=())",
+    },
+}
+
+CLASSES = {
+    "errors": {
+        "NoPaper": "(word, at)", "NoOrder": "(paper)", "NoHand": "(hand)", "NoStep": "(word)", "NoBack": "(times)",
+        "NoText": "(line, word)", "NoLine": "(line)",
+    },
+}
+
+
+class Interface(unittest.TestCase):
+    def test_functions(self):
+        for file, functions in FUNCTIONS.items():
+            module = importlib.import_module("drawerways." + file)
+            for name, arguments in functions.items():
+                function = getattr(module, name)
+                self.assertTrue(inspect.isfunction(function), name)
+                self.assertEqual(function.__module__, "drawerways." + file, name)
+                self.assertEqual(str(inspect.signature(function)), arguments, name)
+
+    def test_classes(self):
+        for file, classes in CLASSES.items():
+            module = importlib.import_module("drawerways." + file)
+            for name, fields in classes.items():
+                refusal = getattr(module, name)
+                self.assertTrue(inspect.isclass(refusal), name)
+                self.assertEqual(refusal.__module__, "drawerways." + file, name)
+                self.assertEqual(str(inspect.signature(refusal)), fields, name)
+
+
+if __name__ == "__main__":
+    unittest.main()
