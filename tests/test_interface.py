@@ -14,6 +14,14 @@ FUNCTIONS = {
         "renamed_deed": "(deed, *, names=())",
         "renamed_told": "(told, *, names=(), nodes=())",
     },
+    "undoing": {"back_of": "(tree, deed)"},
+    "deedtexts": {"shown_way": "(way)", "shown_deed": "(deed)", "shown_tree": "(tree)"},
+    "deedreader": {
+        "read_way": "(text, *, line=0)", "read_deed": "(text, *, line=0)", "read_tree": "(text, *, line=0)",
+    },
+    "tasks": {"in_order": "(tree, hands, line)", "trees_along": "(tree, hands, line, *, first=0)"},
+    "spans": {"is_spans": "(hands, thing)", "is_ahead": "(spans, one, other)", "moments_by": "(spans, line)"},
+    "serialchecker": {"lets_serial": "(tree, hands, spans, results, end, thing)"},
 }
 
 CLASSES = {
