@@ -41,6 +41,13 @@ def is_ahead(spans, one, other):
     return span_by[one][1] < span_by[other][0]
 
 
+def next_tasks(spans, left):
+    """Tell, of TASKS LEFT, those that none LEFT is AHEAD of, in their order."""
+    span_by = spans_by_task(spans)
+    ends = [span_by[task][1] for task in left]
+    return [task for task in left if not any([end < span_by[task][0] for end in ends])]
+
+
 def first_misfit(spans, line):
     """Tell the places (i, j) of the first TASK j that is AHEAD of one ahead of it in the LINE, i the first such.
 

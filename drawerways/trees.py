@@ -47,7 +47,7 @@ def is_whole(rows):
         return False
     if not all([stands_right(node, kind, times.get(node, 0)) for node, kind, _ in rows]):
         return False
-    return many_reached(inside) == len(inside)
+    return len(reached(inside)) == len(inside)
 
 
 def times_named(rows):
@@ -67,8 +67,8 @@ def stands_right(node, kind, times):
     return kind == "sheet" or times == 1
 
 
-def many_reached(inside):
-    """Tell to how many NODES one comes down from the TOP, inside having the ENTRIES of each."""
+def reached(inside):
+    """Tell the NODES to which one comes down from the TOP, inside having the ENTRIES of each; True for each."""
     met = {0: True}
     queue = [0]
     while queue:
@@ -77,7 +77,12 @@ def many_reached(inside):
             if node not in met:
                 met[node] = True
                 queue.append(node)
-    return len(met)
+    return met
+
+
+def lives(tree, node):
+    """Tell whether a NODE lives in a TREE."""
+    return node in [row[0] for row in tree[0]]
 
 
 def row_of(tree, node):

@@ -2,6 +2,7 @@
 
 from drawerways.deeds import done
 from drawerways.paths import way_through, ways_to
+from drawerways.trees import lives
 
 
 def back_of(tree, deed):
@@ -40,11 +41,6 @@ def back_of_move(tree, newer, deed):
         return None
     between, _ = done(newer, back)
     return (back, link_again(between, lost, other))
-
-
-def lives(tree, node):
-    """Tell whether a NODE lives in a TREE."""
-    return node in [row[0] for row in tree[0]]
 
 
 def link_again(tree, sheet, way):

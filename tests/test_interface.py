@@ -22,6 +22,16 @@ FUNCTIONS = {
     "tasks": {"in_order": "(tree, hands, line)", "trees_along": "(tree, hands, line, *, first=0)"},
     "spans": {"is_spans": "(hands, thing)", "is_ahead": "(spans, one, other)", "moments_by": "(spans, line)"},
     "serialchecker": {"lets_serial": "(tree, hands, spans, results, end, thing)"},
+    "orders": {
+        "serial_paper": "(tree, hands, spans, results, end, *, most=6)", "outcomes": "(tree, hands, spans, *, most=6)",
+    },
+    "barchecker": {"lets_bar": "(tree, hands, spans, results, end, thing)"},
+    "exchanges": {"may_exchange": "(tree, one, other)", "lets_exchanges": "(tree, hands, line, thing)"},
+    "waits": {
+        "is_waits": "(thing)", "waiting_pairs": "(rows)", "ring_or_ranks": "(rows)", "climbs": "(rows, *, order=())",
+    },
+    "waitchecker": {"lets_ring": "(rows, thing)", "lets_ranks": "(rows, thing)"},
+    "disks": {"disk_of": "(tree)", "written": "(disk, writes)", "mended": "(disk)"},
 }
 
 CLASSES = {
