@@ -32,6 +32,15 @@ FUNCTIONS = {
     },
     "waitchecker": {"lets_ring": "(rows, thing)", "lets_ranks": "(rows, thing)"},
     "disks": {"disk_of": "(tree)", "written": "(disk, writes)", "mended": "(disk)"},
+    "diskwrites": {"writes_of": "(tree, deed)"},
+    "cuts": {"cuts": "(tree, deeds)"},
+    "cutchecker": {"lets_cuts": "(tree, deeds, thing)"},
+    "histories": {
+        "walk_in": "(history, way, *, moments)", "is_still": "(history, *, first=0, last=None)",
+        "had_by": "(history, way, *, moments)",
+    },
+    "historychecker": {"lets_moment": "(history, way, thing, *, moments)"},
+    "states": {"begun": "(tree, hands)", "is_quiet": "(state)", "tree_of": "(state)"},
 }
 
 CLASSES = {
