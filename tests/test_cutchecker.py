@@ -16,7 +16,7 @@ TREE = SMALL
 ROW = (("look", ()), ("make", ("c",), "sheet"), ("list", ()), ("move", ("b",), ("d",)), ("look", ()), ("list", ("a",)))
 PAPER = (1, 3, 4, 4, 4, 6)
 
-# A look and a move back and forth: the TREES tell no one thing from another.
+# Nothing is written, so there is one CUT, and any number of these DEEDS may be told of it.
 STILL = (("list", ()), ("look", ()))
 
 

@@ -6,7 +6,9 @@ from itertools import product
 
 from drawerways.errors import NoPaper, PaperError
 from drawerways.exchanges import lets_exchanges, may_exchange
-from drawerways.tasks import in_order
+from drawerways.serialchecker import lets_serial
+from drawerways.spans import moments_by
+from drawerways.tasks import in_order, trees_along
 from drawerways.trees import EMPTY
 
 from model import Model, modelled
@@ -226,6 +228,17 @@ class Exchanges(unittest.TestCase):
                 return "other", i
             at[place:place + 2] = [at[place + 1], at[place]]
         return "line", tuple(at)
+
+    def test_what_comes_is_handed_in_again(self):
+        # Each hand's TASKS stand one behind the other, else all are there at once.
+        spans = (((0, 0), 0, 9), ((0, 1), 10, 19), ((1, 0), 0, 9), ((1, 1), 10, 19), ((2, 0), 0, 19), ((3, 0), 0, 19))
+        results, end = in_order(SMALL, HANDS, LINE)
+        for places in ((), (0,), (2,), (0, 0), (2, 4), (2, 3), (4, 2, 3)):
+            line = lets_exchanges(SMALL, HANDS, LINE, places)
+            self.assertEqual(lets_exchanges(SMALL, HANDS, line, places[::-1]), LINE)
+            self.assertEqual(trees_along(SMALL, HANDS, line)[-1], end)
+            self.assertIs(lets_serial(SMALL, HANDS, spans, results, end, line), True)
+            self.assertEqual([task for task, _ in moments_by(spans, line)], list(line))
 
     def test_by_name(self):
         self.assertEqual(lets_exchanges(thing=(), line=LINE, hands=HANDS, tree=SMALL), LINE)
