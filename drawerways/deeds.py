@@ -147,23 +147,30 @@ def why_no_swap(tree, places):
 
 def done_two(tree, deed):
     """Do a "link", "move" or "swap"."""
-    word, way, other = deed
+    _, way, other = deed
     p, s, miss = place_of(tree, way)
     if miss is not None:
         return tree, miss + (0,)
     q, t, miss = place_of(tree, other)
     if miss is not None:
         return tree, miss + (1,)
-    if s is None:
-        return tree, ("none", len(way) - 1, 0)
-    if t is None and word == "swap":
-        return tree, ("none", len(other) - 1, 1)
     places = (p, s, q, t)
-    why_not = REFUSALS[word]
-    told = why_not(tree, places)
+    told = why_no_two(tree, deed, places)
     if told is not None:
         return tree, told
     return turned(tree, deed, places)
+
+
+def why_no_two(tree, deed, places):
+    """Tell what refuses a "link", "move" or "swap" at places (P, S, Q, T), None where nothing does."""
+    word, way, other = deed
+    _, s, _, t = places
+    if s is None:
+        return ("none", len(way) - 1, 0)
+    if t is None and word == "swap":
+        return ("none", len(other) - 1, 1)
+    why_not = REFUSALS[word]
+    return why_not(tree, places)
 
 
 def turned(tree, deed, places):

@@ -1,12 +1,13 @@
 """STATES: HANDS, what is on the disk, who holds what, and where each hand is."""
 
 from drawerways.errors import NoStep
+from drawerways.stateedits import fresh_row, tree_at, turn_of
 
 
 def begun(tree, hands):
     """Tell the STATE at the beginning."""
     nodes, made = tree
-    rows = tuple([(0, "new" if deeds != () else "through", None, (), 0, None) for deeds in hands])
+    rows = tuple([fresh_row(hands, hand, 0) for hand in range(len(hands))])
     return hands, (nodes, made, None), (), None, 0, rows
 
 
@@ -17,8 +18,6 @@ def is_quiet(state):
 
 def tree_of(state):
     """Tell the TREE of a STATE; refuse one in the midst of a move, where the TURN is odd."""
-    _, disk, _, _, turn, _ = state
-    if turn % 2 == 1:
+    if turn_of(state) % 2 == 1:
         raise NoStep("turn")
-    nodes, made, _ = disk
-    return nodes, made
+    return tree_at(state)

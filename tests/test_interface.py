@@ -41,6 +41,17 @@ FUNCTIONS = {
     },
     "historychecker": {"lets_moment": "(history, way, thing, *, moments)"},
     "states": {"begun": "(tree, hands)", "is_quiet": "(state)", "tree_of": "(state)"},
+    "steps": {"step": "(state, hand)"},
+    "runs": {
+        "run": "(state, schedule, *, most=400)", "until_quiet": "(state, *, by=())",
+        "rounds": "(*, deeds, hands, names)",
+    },
+    "cutting": {"cut": "(state)"},
+    "spansof": {"spans_of": "(tree, hands, log)", "results_of": "(tree, hands, log)"},
+    "runmoments": {
+        "moments_of": "(tree, hands, log)", "run_order": "(tree, hands, log)", "end_of": "(tree, hands, log)",
+    },
+    "momentchecker": {"lets_moments": "(tree, hands, log, thing)"},
 }
 
 CLASSES = {
