@@ -97,15 +97,16 @@ def standing(state, hand):
     """Tell the STATE with a hand in the phase that is due where it stands on its WAY."""
     k, _, noted, spots, reads, _ = row_at(state, hand)
     deed = deed_at(state, hand)
+    ways = names_to_read(deed)
+    many = len(ways[len(spots) - 1])
     kind = kind_of(tree_at(state), spots[-1])
-    names = names_to_read(deed)
-    if reads == len(names[len(spots) - 1]) and deed[0] == "look":
+    if reads == many and deed[0] == "look":
         return in_phase(state, hand, "last", ("found", kind, spots[-1]))
     if kind == "sheet":
         return in_phase(state, hand, "last", missing(state, hand, "sheet"))
-    if reads < len(names[len(spots) - 1]):
+    if reads < many:
         return in_phase(state, hand, "walks", None)
-    if len(spots) < len(names):
+    if len(spots) < len(ways):
         return standing(with_row(state, hand, (k, "walks", noted, spots + (0,), 0, None)), hand)
     return in_phase(state, hand, "locks", None)
 
@@ -121,8 +122,8 @@ def missing(state, hand, word):
 def step_walks(state, hand):
     """Read a NAME."""
     k, _, noted, spots, reads, _ = row_at(state, hand)
-    names = names_to_read(deed_at(state, hand))
-    node = read_at(tree_at(state), spots[-1], names[len(spots) - 1][reads])
+    ways = names_to_read(deed_at(state, hand))
+    node = read_at(tree_at(state), spots[-1], ways[len(spots) - 1][reads])
     event = (hand, "walk", reads, node)
     if node is None:
         return in_phase(state, hand, "last", missing(state, hand, "none")), event

@@ -52,6 +52,9 @@ FUNCTIONS = {
         "moments_of": "(tree, hands, log)", "run_order": "(tree, hands, log)", "end_of": "(tree, hands, log)",
     },
     "momentchecker": {"lets_moments": "(tree, hands, log, thing)"},
+    "eventkinds": {"is_event": "(thing)"},
+    "eventtexts": {"shown_event": "(event)", "shown_log": "(log)", "shown_schedule": "(schedule)"},
+    "eventreader": {"read_event": "(text, *, line=0)", "read_log": "(text)", "read_schedule": "(text)"},
 }
 
 CLASSES = {
@@ -59,7 +62,30 @@ CLASSES = {
         "NoPaper": "(word, at)", "NoOrder": "(paper)", "NoHand": "(hand)", "NoStep": "(word)", "NoBack": "(times)",
         "NoText": "(line, word)", "NoLine": "(line)",
     },
+    "hints": {"Hints": "(*, most=4)"},
+    "cabinet": {"Cabinet": "(tree, *, hands=())"},
+    "desk": {"Desk": "()"},
 }
+
+METHODS = {
+    "hints": {
+        "Hints": {
+            "ask": "(self, state, way)", "hits": "(self)", "knows": "(self, thing)", "forget": "(self, thing)",
+            "__len__": "(self)",
+        },
+    },
+    "cabinet": {
+        "Cabinet": {
+            "step": "(self, hand)", "run": "(self, schedule, *, most=400)", "until_quiet": "(self, *, by=())",
+            "back": "(self, times=1)", "then": "(self, k)", "cut_at": "(self, k)", "tree_first": "(self)",
+            "hands_first": "(self)", "state_now": "(self)", "log_now": "(self)", "look": "(self, way)",
+            "__len__": "(self)", "__str__": "(self)", "__eq__": "(self, other)",
+        },
+    },
+    "desk": {"Desk": {"say": "(self, row)", "diary": "(self)", "is_open": "(self)"}},
+}
+
+NUMBERS = {"orders": {"MOST": 6}, "runs": {"LIMIT": 400}, "hints": {"KEPT": 4}}
 
 
 class Interface(unittest.TestCase):
@@ -80,6 +106,22 @@ class Interface(unittest.TestCase):
                 self.assertTrue(inspect.isclass(refusal), name)
                 self.assertEqual(refusal.__module__, "drawerways." + file, name)
                 self.assertEqual(str(inspect.signature(refusal)), fields, name)
+
+    def test_methods(self):
+        for file, classes in METHODS.items():
+            module = importlib.import_module("drawerways." + file)
+            for name, methods in classes.items():
+                for method, arguments in methods.items():
+                    # In the class itself, not only in a base class.
+                    self.assertIn(method, vars(getattr(module, name)), (name, method))
+                    self.assertEqual(str(inspect.signature(vars(getattr(module, name))[method])), arguments, method)
+
+    def test_numbers(self):
+        for file, numbers in NUMBERS.items():
+            module = importlib.import_module("drawerways." + file)
+            for name, number in numbers.items():
+                self.assertEqual(getattr(module, name), number)
+                self.assertIs(type(getattr(module, name)), int)
 
 
 if __name__ == "__main__":

@@ -26,8 +26,11 @@ METHODS = set(
 BARRED = (
     ast.AsyncFunctionDef, ast.AsyncFor, ast.AsyncWith, ast.Await, ast.Global, ast.Nonlocal, ast.Import, ast.Lambda,
     ast.GeneratorExp, ast.SetComp, ast.Set, ast.Yield, ast.YieldFrom, ast.Starred, ast.NamedExpr, ast.Div, ast.MatMult,
-    ast.Try, ast.With, ast.Match, ast.AnnAssign,
+    ast.With, ast.Match, ast.AnnAssign,
 )
+
+# Double-underscore methods that classes here have.
+DOUBLE = ("__init__", "__len__", "__str__", "__eq__")
 
 WORDS = set(
     "type typing typing_extensions enum Enum IntEnum StrEnum Flag IntFlag Generic Protocol ABC ABCMeta namedtuple "
@@ -43,6 +46,14 @@ def files():
 
 def parsed():
     return {file: ast.parse(file.read_text()) for file in files()}
+
+
+def own_methods():
+    """The names of all methods of the package, but the double-underscore ones."""
+    return {
+        part.name for tree in parsed().values() for node in tree.body if isinstance(node, ast.ClassDef)
+        for part in node.body if isinstance(part, ast.FunctionDef) and part.name not in DOUBLE
+    }
 
 
 def bound(tree):
@@ -83,6 +94,9 @@ class Language(unittest.TestCase):
                 if isinstance(node, (ast.FunctionDef, ast.ClassDef)):
                     self.assertEqual(node.decorator_list, [], (file.name, node.name))
                     self.assertIsNotNone(ast.get_docstring(node) or node.name == "__init__" or None, node.name)
+                if isinstance(node, ast.ClassDef):
+                    methods = [part.name for part in node.body if isinstance(part, ast.FunctionDef)]
+                    self.assertEqual(len(methods), len(set(methods)), (file.name, node.name))
                 if isinstance(node, ast.FunctionDef):
                     self.assertLessEqual(node.end_lineno - node.lineno + 1, 40, (file.name, node.name))
                     self.assertIsNone(node.returns)
@@ -147,8 +161,8 @@ class Language(unittest.TestCase):
         for file, tree in parsed().items():
             names = bound(tree)
             for name in names:
-                self.assertFalse(hasattr(builtins, name) and name != "__init__", (file.name, name))
-                self.assertRegex(name, r"^(_|_?[A-Za-z][A-Za-z0-9_]*|__init__)$")
+                self.assertFalse(hasattr(builtins, name) and name not in DOUBLE, (file.name, name))
+                self.assertTrue(name in DOUBLE or re.fullmatch(r"_|_?[A-Za-z][A-Za-z0-9_]*", name), name)
                 self.assertNotIn(name, NOWHERE)
             for node in ast.walk(tree):
                 if isinstance(node, ast.Name) and isinstance(node.ctx, ast.Load):
@@ -166,11 +180,40 @@ class Language(unittest.TestCase):
                     self.assertIn(node.comparators[0].value, (None, True, False), file.name)
 
     def test_methods(self):
+        own = own_methods()
+        # No method has the name of one of Python's own, so each call tells whose it is.
+        self.assertEqual(own & METHODS, set())
         for file, tree in parsed().items():
             for node in ast.walk(tree):
-                if isinstance(node, ast.Call) and isinstance(node.func, ast.Attribute):
+                if isinstance(node, ast.Call) and isinstance(node.func, ast.Attribute) and node.func.attr not in own:
                     self.assertIn(node.func.attr, METHODS, (file.name, node.lineno))
                     self.assertEqual(node.keywords, [], (file.name, node.lineno))
+
+    def test_attributes(self):
+        # Each that is read is given by an __init__, and none has a method's name.
+        own, given, read = own_methods(), set(), set()
+        for tree in parsed().values():
+            called = {id(node.func) for node in ast.walk(tree) if isinstance(node, ast.Call)}
+            for node in ast.walk(tree):
+                if isinstance(node, ast.Attribute) and not isinstance(node.ctx, ast.Load):
+                    self.assertEqual(node.value.id, "self")
+                    given.add(node.attr)
+                elif isinstance(node, ast.Attribute) and id(node) not in called:
+                    read.add(node.attr)
+        self.assertTrue(read <= given, read - given)
+        self.assertEqual(given & (own | METHODS), set())
+
+    def test_refusals_are_caught_by_own_names(self):
+        for file, tree in parsed().items():
+            for node in ast.walk(tree):
+                if isinstance(node, ast.Try):
+                    for handler in node.handlers:
+                        self.assertIn(handler.type.id, ("NoText",), file.name)
+                        self.assertIsNone(handler.name)
+                    for part in node.finalbody:
+                        # What stands in it can't be refused, and calls nothing of the package.
+                        self.assertIsInstance(part, ast.Expr, file.name)
+                        self.assertEqual(part.value.func.attr, "append", file.name)
 
     def test_refusals_are_made_on_the_spot(self):
         for file, tree in parsed().items():
@@ -184,7 +227,7 @@ class Language(unittest.TestCase):
             for token in tokenize.generate_tokens(io.StringIO(file.read_text()).readline):
                 if token.type == tokenize.STRING and not token.line.strip().startswith('"""'):
                     self.assertNotIn("%", token.string, file.name)
-                    self.assertNotIn("\\", token.string, file.name)
+                    self.assertNotIn("\\", token.string.replace("\\n", ""), file.name)
                     self.assertFalse(set(re.findall(r"\w+", token.string)) & WORDS, (file.name, token.string))
                 if token.type == tokenize.NAME:
                     self.assertNotIn(token.string, WORDS | NOWHERE, file.name)
